@@ -1,0 +1,1 @@
+"""Glazebench: glass scored from edge to edge."""
