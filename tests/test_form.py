@@ -1,4 +1,4 @@
-"""The form of the package's own files: what a machine can see of the rules L1 to L28."""
+"""The form of the package's own files: a part of the rules of the language, those that are plain to see."""
 
 import ast
 import builtins
@@ -96,7 +96,7 @@ def top_faults(tree):
 
 
 def def_faults(node):
-    """L4, L5, L10, L28 of a function or a class."""
+    """L4, L5, L10, L12 of a function or a class."""
     if node.decorator_list:
         yield node.lineno, "L4 decorator"
     if isinstance(node, ast.FunctionDef):
@@ -131,7 +131,7 @@ def constant_faults(node):
 
 
 def expression_faults(node):
-    """L7, L8, L12, L17, L20, L27 of one expression."""
+    """L7, L8, L12, L17, L20, L26, L27 of one expression."""
     if isinstance(node, ast.Constant):
         yield from constant_faults(node)
     elif isinstance(node, ast.Name):
@@ -150,7 +150,7 @@ def expression_faults(node):
 
 
 def statement_faults(node):
-    """L6, L19 of one statement."""
+    """L6 of one statement."""
     if isinstance(node, ast.Assign) and len(node.targets) > 1:
         yield node.lineno, "L6 targets"
     if isinstance(node, (ast.For, ast.While)) and node.orelse:
