@@ -31,6 +31,10 @@ NO_WORDS = re.compile(r"\b(type|typing|typing_extensions|enum|Enum|IntEnum|StrEn
 NO_FILES = re.compile(r"(test|tests|testing|test_.*|site|conftest|sitecustomize|usercustomize)$")
 
 
+KEYWORDS = {"sorted": ("key", "reverse"), "min": ("key", "default"), "max": ("key", "default"), "sum": ("start",),
+            "enumerate": ("start",), "zip": ("strict",)}
+
+
 def top_names(tree):
     names = []
     for node in tree.body:
@@ -149,6 +153,61 @@ def expression_faults(node):
             yield node.lineno, "L20 is"
 
 
+def is_python_walk(node):
+    """Whether this is a call of something that is to be walked at once."""
+    if not isinstance(node, ast.Call):
+        return False
+    if isinstance(node.func, ast.Name):
+        return node.func.id in ("zip", "enumerate", "reversed", "range")
+    return isinstance(node.func, ast.Attribute) and node.func.attr in ("items", "keys", "values")
+
+
+def walks_at_once(parent, node):
+    if isinstance(parent, (ast.For, ast.comprehension)):
+        return parent.iter is node
+    if not isinstance(parent, ast.Call) or not parent.args or parent.args[0] is not node:
+        return False
+    if isinstance(parent.func, ast.Attribute):
+        return parent.func.attr == "join" and isinstance(parent.func.value, ast.Constant)
+    if parent.func.id in ("min", "max"):
+        return len(parent.args) == 1
+    return parent.func.id in ("list", "tuple", "dict", "sorted", "sum", "any", "all", "enumerate", "zip")
+
+
+def shows_class(parent, node):
+    """Whether a class stands here where one may: called, as a base, by isinstance, except or raise."""
+    if isinstance(parent, ast.Call):
+        asked = isinstance(parent.func, ast.Name) and parent.func.id == "isinstance"
+        return parent.func is node or asked
+    return isinstance(parent, (ast.ClassDef, ast.ExceptHandler, ast.Raise, ast.Attribute, ast.Tuple))
+
+
+def call_faults(node):
+    """L22: keywords at Python's own names."""
+    if not isinstance(node.func, ast.Name) or not hasattr(builtins, node.func.id):
+        return
+    for keyword in node.keywords:
+        if keyword.arg not in KEYWORDS.get(node.func.id, ()):
+            yield node.lineno, "L22 keyword"
+
+
+def placed_faults(tree):
+    """L18, L21, L22, L23: what hangs on where a thing stands."""
+    classes = [node.name for node in tree.body if isinstance(node, ast.ClassDef)]
+    classes += [alias.name for node in tree.body if isinstance(node, ast.ImportFrom) for alias in node.names
+                if re.match("[A-Z][A-Za-z]*[a-z]", alias.name)]
+    for parent in ast.walk(tree):
+        if isinstance(parent, ast.Call):
+            yield from call_faults(parent)
+        if isinstance(parent, ast.arg) and parent.annotation or isinstance(parent, ast.FunctionDef) and parent.returns:
+            yield parent.lineno, "L21 annotation"
+        for node in ast.iter_child_nodes(parent):
+            if is_python_walk(node) and not walks_at_once(parent, node):
+                yield node.lineno, "L23 not walked at once"
+            if isinstance(node, ast.Name) and node.id in classes and not shows_class(parent, node):
+                yield node.lineno, "L18 class handed on"
+
+
 def statement_faults(node):
     """L6 of one statement."""
     if isinstance(node, ast.Assign) and len(node.targets) > 1:
@@ -163,6 +222,7 @@ def statement_faults(node):
 
 def tree_faults(tree):
     yield from top_faults(tree)
+    yield from placed_faults(tree)
     for node in ast.walk(tree):
         if isinstance(node, ast.stmt) and not isinstance(node, STATEMENTS):
             yield node.lineno, "L6 statement"
@@ -219,8 +279,8 @@ class TestForm(unittest.TestCase):
         self.trees = {name.partition(".")[0]: ast.parse(text) for name, text in self.texts.items()}
 
     def test_there_are_files(self):
-        for name in ("__init__.py", "errors.py", "panels.py", "drawings.py"):
-            self.assertIn(name, self.texts)
+        for name in ("__init__", "errors", "panels", "drawings", "cuts", "cuttexts", "blocks", "leads"):
+            self.assertIn(name + ".py", self.texts)
 
     def test_each_file(self):
         for name, text in self.texts.items():
@@ -238,7 +298,11 @@ class TestForm(unittest.TestCase):
                      "def f(x):\n    return {y: y for y in x}", "def f(x):\n    return x is f",
                      "def f(x):\n    with x:\n        pass", "def f(x):\n    for y in x:\n        pass\n    else:\n"
                      "        pass", "x = '%'", "def f():\n" + "    pass\n" * 40, "\n" * 401, "x = '" + "a" * 120 + "'",
-                     "def f(x):\n    return getattr(x, 'y')", "def f(x):\n    x._y = 1", "def f(x):\n    yield x"):
+                     "def f(x):\n    return getattr(x, 'y')", "def f(x):\n    x._y = 1", "def f(x):\n    yield x",
+                     "def f(x):\n    y = range(x)", "def f(x):\n    return x.items()",
+                     "def f(x):\n    return max(x, range(3))",
+                     "class C:\n    pass\n\n\ndef f():\n    return C", "def f(x: int):\n    pass",
+                     "def f(x):\n    return int(x, base=3)"):
             self.assertNotEqual(faults("some.py", text), [], text)
 
 
