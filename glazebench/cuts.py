@@ -60,10 +60,15 @@ class Level(Tree):
         self.other = other
 
 
-def entry_of(tree):
+def kind_of(tree):
     if isinstance(tree, Whole):
-        return (WHOLE, tree.mark)
-    return (UPRIGHT if isinstance(tree, Upright) else LEVEL, tree.at)
+        return WHOLE
+    return UPRIGHT if isinstance(tree, Upright) else LEVEL
+
+
+def entry_of(tree):
+    kind = kind_of(tree)
+    return (kind, tree.mark if kind == WHOLE else tree.at)
 
 
 def entries_of(tree):

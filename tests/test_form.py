@@ -279,7 +279,8 @@ class TestForm(unittest.TestCase):
         self.trees = {name.partition(".")[0]: ast.parse(text) for name, text in self.texts.items()}
 
     def test_there_are_files(self):
-        for name in ("__init__", "errors", "panels", "drawings", "cuts", "cuttexts", "blocks", "leads"):
+        for name in ("__init__", "errors", "panels", "drawings", "cuts", "cuttexts", "blocks", "leads", "rooms",
+                     "forms", "moves", "counts"):
             self.assertIn(name + ".py", self.texts)
 
     def test_each_file(self):
