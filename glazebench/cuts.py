@@ -102,6 +102,21 @@ def tree_from(entries):
     return done.pop()
 
 
+def entries_by(sheet, entry_at):
+    """The entries of the tree that is told piece by piece: entry_at tells the entry of a piece of the sheet."""
+    entries = []
+    waiting = [sheet]
+    while waiting:
+        piece = waiting.pop()
+        entry = entry_at(piece)
+        entries.append(entry)
+        if entry[0] in (UPRIGHT, LEVEL):
+            # The first part lies on top, so that all of it comes ahead of the other one.
+            waiting.append(other_piece(piece, entry[0], entry[1]))
+            waiting.append(first_piece(piece, entry[0], entry[1]))
+    return entries
+
+
 def turned_word(word):
     if word == WHOLE:
         return WHOLE

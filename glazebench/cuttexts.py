@@ -6,7 +6,7 @@ from glazebench.panels import LONGEST_SIDE
 
 FIGURES = "0123456789"
 # A mark is at most 999.
-MOST_FIGURES = 3
+MARK_FIGURES = 3
 # Fifty-two whole pieces and the fifty-one cuts between them.
 MOST_WORDS = 103
 
@@ -21,8 +21,9 @@ def written(tree):
     return " ".join([word_of(kind, number) for kind, number in entries_of(tree)])
 
 
-def number_in(text):
-    if not 1 <= len(text) <= MOST_FIGURES or not all([sign in FIGURES for sign in text]):
+def number_in(text, most):
+    """The number that is written by at most so many figures; None where none is."""
+    if not 1 <= len(text) <= most or not all([sign in FIGURES for sign in text]):
         return None
     if text[0] == "0" and text != "0":
         return None
@@ -32,7 +33,7 @@ def number_in(text):
 def entry_in(word):
     if word == ".":
         return (WHOLE, None)
-    number = number_in(word[1:])
+    number = number_in(word[1:], MARK_FIGURES)
     if number is None:
         return None
     if word[0] == "#":

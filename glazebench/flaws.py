@@ -1,7 +1,7 @@
 """What a sheet with flawed squares is worth at most, and how to cut it for that."""
 
 from glazebench.errors import NoFlaw, NoSide, TooMany
-from glazebench.panels import is_side, is_whole
+from glazebench.panels import area_of, is_side, is_whole
 from glazebench.worths import best_choice, check_kinds, choice_uncut, tree_by, worths_in
 
 LONGEST_FLAWED = 7
@@ -39,10 +39,6 @@ def runs_within(length):
     for begin in range(length):
         runs.extend([(begin, end) for end in range(begin + 1, length + 1)])
     return runs
-
-
-def area_of(piece):
-    return (piece[2] - piece[0]) * (piece[3] - piece[1])
 
 
 def pieces_within(width, height):

@@ -40,6 +40,14 @@ def squares_of(rectangle):
     return squares
 
 
+def size_of(rectangle):
+    return (rectangle[3] - rectangle[1], rectangle[2] - rectangle[0])
+
+
+def area_of(rectangle):
+    return (rectangle[2] - rectangle[0]) * (rectangle[3] - rectangle[1])
+
+
 def check_sides(width, height):
     for side in (width, height):
         if not is_side(side):

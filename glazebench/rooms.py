@@ -1,7 +1,7 @@
 """The tree of a panel; or a room of it, and why no line goes through this room."""
 
 from glazebench.blocks import LEFT, TOP, line_breaks, lines_through, panes_in
-from glazebench.cuts import LEVEL, UPRIGHT, WHOLE, first_piece, other_piece, tree_from
+from glazebench.cuts import LEVEL, UPRIGHT, WHOLE, entries_by, tree_from
 from glazebench.errors import Stuck
 from glazebench.leads import leads, lies_on, turn
 from glazebench.panels import inside
@@ -28,17 +28,7 @@ def cut_up(sheet, some):
 
     They are handed in as a list and not as a panel, since a tree may have more of them than a panel may.
     """
-    entries = []
-    waiting = [sheet]
-    while waiting:
-        block = waiting.pop()
-        entry = entry_for(block, [piece for piece in some if inside(piece[0], block)])
-        entries.append(entry)
-        if entry[0] in (UPRIGHT, LEVEL):
-            # The first part lies on top, so that all of it comes ahead of the other one.
-            waiting.append(other_piece(block, entry[0], entry[1]))
-            waiting.append(first_piece(block, entry[0], entry[1]))
-    return entries
+    return entries_by(sheet, lambda block: entry_for(block, [piece for piece in some if inside(piece[0], block)]))
 
 
 def pane_broken(line, panes, side):

@@ -35,6 +35,11 @@ def ways_to_lie(want):
     return [(want[0], want[1])]
 
 
+def ways_held(want, width, height):
+    """Those of the ways to lie that a piece of this size has room for; as it is ahead of turned."""
+    return [size for size in ways_to_lie(want) if size[0] <= width and size[1] <= height]
+
+
 def is_alone(bits):
     return bits & (bits - 1) == 0
 
@@ -109,8 +114,7 @@ def cut_off(mark, size, width, height):
 
 
 def tree_alone(wants, number, width, height):
-    ways = ways_to_lie(wants[number])
-    held = [size for size in ways if size[0] <= width and size[1] <= height]
+    held = ways_held(wants[number], width, height)
     return cut_off(number, held[0], width, height)
 
 

@@ -5,9 +5,9 @@ it. Choices are kept by keys: here by sizes, of which one choice does for all pi
 of one size are worth the same, by the pieces themselves.
 """
 
-from glazebench.cuts import LEVEL, UPRIGHT, WHOLE, first_piece, other_piece, pieces, tree_from
+from glazebench.cuts import LEVEL, UPRIGHT, WHOLE, entries_by, first_piece, other_piece, pieces, tree_from
 from glazebench.errors import NoKind, TooMany, Unfit
-from glazebench.panels import check_sides, is_side, is_whole
+from glazebench.panels import check_sides, is_side, is_whole, size_of
 
 MOST_KINDS = 8
 GREATEST_WORTH = 1000000000
@@ -27,10 +27,6 @@ def check_kinds(kinds):
     for place, kind in enumerate(kinds):
         if not is_kind(kind):
             raise NoKind(place)
-
-
-def size_of(piece):
-    return (piece[3] - piece[1], piece[2] - piece[0])
 
 
 def has_size(size, width, height, turns):
@@ -66,17 +62,7 @@ def best_choice(piece, uncut, choices, key):
 
 
 def tree_by(choices, sheet, key):
-    entries = []
-    waiting = [sheet]
-    while waiting:
-        piece = waiting.pop()
-        entry = choices[key(piece)][1]
-        entries.append(entry)
-        if entry[0] != WHOLE:
-            # The first part lies on top, so that all of it comes ahead of the other one.
-            waiting.append(other_piece(piece, entry[0], entry[1]))
-            waiting.append(first_piece(piece, entry[0], entry[1]))
-    return tree_from(entries)
+    return tree_from(entries_by(sheet, lambda piece: choices[key(piece)][1]))
 
 
 def worths_in(choices):

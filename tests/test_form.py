@@ -280,7 +280,8 @@ class TestForm(unittest.TestCase):
 
     def test_there_are_files(self):
         for name in ("__init__", "errors", "panels", "drawings", "cuts", "cuttexts", "blocks", "leads", "rooms",
-                     "forms", "moves", "counts", "numbers", "worths", "flaws", "stairs"):
+                     "forms", "moves", "counts", "numbers", "worths", "flaws", "stairs", "plans", "bench", "lines",
+                     "desk"):
             self.assertIn(name + ".py", self.texts)
 
     def test_each_file(self):
